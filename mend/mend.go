@@ -1,0 +1,43 @@
+// Package mend: programs of threads and locks, their races, and how few locks mend them: see DOC.md.
+package mend
+
+import (
+	"mend/api"
+	"mend/code"
+)
+
+// Check tells whether a text is a program (P3).
+func Check(program string) (api.Errno, int) {
+	_, e, at := code.Read(program)
+	return e, at
+}
+
+// Strip takes the mended regions away (P4).
+func Strip(program string) (string, api.Errno) {
+	_, e, _ := code.Read(program)
+	if e != api.OK {
+		return "", e
+	}
+	return stripped(program), api.OK
+}
+
+// Accesses lists where globals are got and put (P5).
+func Accesses(program string) ([]api.Access, api.Errno) {
+	marks, e, _ := code.Read(program)
+	if e != api.OK {
+		return nil, e
+	}
+	return accesses(marks), api.OK
+}
+
+// Run runs a program by picks (P6).
+func Run(program string, picks string) (api.Result, api.Errno) { return api.Result{}, api.OK }
+
+// Pairs lists the open pairs of accesses (P7).
+func Pairs(program string) ([]int, api.Errno) { return nil, api.OK }
+
+// Order lists the edges of the order of locks (P8).
+func Order(program string) (string, api.Errno) { return "", api.OK }
+
+// Repair mends a program (P9).
+func Repair(program string) (int, string, api.Errno) { return 0, "", api.OK }

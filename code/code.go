@@ -1,31 +1,44 @@
-// Package code reads the text of a program and tells what is wrong with it.
+// Package code reads the text of a program: it tells what is wrong with it, or
+// the steps that it is made of.
 package code
 
 import "mend/api"
 
-// The kinds of marks.
+// The kinds of steps. A Jump and an End are none of the document's steps: a Jump
+// leads from the end of a body to what is done behind it, and at an End nothing
+// is left to be done.
 const (
-	Get  = 1
-	Put  = 2
-	Take = 3 // a region or a mended region begins
+	Get   = 1
+	Put   = 2
+	Add   = 3
+	Print = 4
+	Test  = 5
+	Take  = 6
+	Give  = 7
+	Jump  = 8
+	End   = 9
 )
 
-// Mark is a place of a program that matters to races: an access, or where a
-// region or a mended region begins.
-type Mark struct {
+// Step is a step of a program as it stands in the text.
+type Step struct {
 	Kind   int
-	At     int // the place of its first byte in the text
-	Thread int // from 1 on
-	Number int // of the global or the lock
+	At     int  // the place of its first byte in the text
+	Thread int  // from 1 on
+	Number int  // of the global or the lock, or what is added
+	Mended bool // whether a Take or a Give is a mended region's
+	// Next is the number, among the program's steps, of the one that is done
+	// after it; of a Test, if the register is not 0. Else is that of a Test, if
+	// the register is 0.
+	Next int
+	Else int
 	// Held are the locks of the regions and mended regions inside which the
-	// mark lies; of a Take its own lock is not one of them, unless it is nested
-	// wrongly.
+	// step lies. The Take of a region lies outside of it, and so does its Give.
 	Held [api.Locks]bool
 }
 
-// Read answers the marks of a program in the order of the text, or what is
-// wrong with it, and where.
-func Read(text string) ([]Mark, api.Errno, int) {
+// Read answers the steps of a program in the order of the text, the last of each
+// thread an End; or what is wrong with the text, and where.
+func Read(text string) ([]Step, api.Errno, int) {
 	if len(text) > api.MaxText {
 		return nil, api.ErrLong, 0
 	}
@@ -34,18 +47,18 @@ func Read(text string) ([]Mark, api.Errno, int) {
 	if !whole {
 		return nil, api.ErrForm, r.at
 	}
-	for i := 0; i < len(r.marks); i++ {
-		if r.marks[i].nested() {
-			return nil, api.ErrNest, r.marks[i].At
+	for i := 0; i < len(r.steps); i++ {
+		if r.steps[i].nested() {
+			return nil, api.ErrNest, r.steps[i].At
 		}
 	}
-	return r.marks, api.OK, 0
+	return r.steps, api.OK, 0
 }
 
 // nested tells whether a lock is taken inside a region of the same lock.
-func (m Mark) nested() bool {
-	if m.Kind != Take || m.Number < 0 || m.Number >= api.Locks {
+func (s Step) nested() bool {
+	if s.Kind != Take || s.Number < 0 || s.Number >= api.Locks {
 		return false
 	}
-	return m.Held[m.Number]
+	return s.Held[s.Number]
 }

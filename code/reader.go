@@ -8,7 +8,8 @@ const (
 	region     = 1
 	mended     = 2
 	firstBody  = 3 // of a `?`: another body must follow it
-	singleBody = 4 // the second of a `?`, or that of a `!`
+	secondBody = 4
+	loopBody   = 5 // of a `!`
 )
 
 // noLock stands for the lock of a body, which has none.
@@ -18,6 +19,10 @@ const noLock = -1
 type opened struct {
 	kind int
 	lock int
+	// from is the number of the step that cannot know where it leads before the
+	// end is read: the Test of a first or a loop body, the Jump over a second
+	// one.
+	from int
 }
 
 // reader goes through a text once. It never steps over a byte that cannot stand
@@ -28,7 +33,7 @@ type reader struct {
 	at     int
 	thread int
 	open   []opened // the innermost last
-	marks  []Mark
+	steps  []Step
 }
 
 // program reads the whole text. It ends, as every piece moves at forward.
@@ -39,6 +44,7 @@ func (r *reader) program() bool {
 			return false
 		}
 	}
+	r.step(Step{Kind: End, At: r.at})
 	return len(r.open) == 0
 }
 
@@ -53,8 +59,7 @@ func (r *reader) piece() bool {
 	case 'i':
 		return r.addition()
 	case 'o':
-		r.at++
-		return true
+		return r.print()
 	case '[':
 		return r.regionBegin()
 	case ']':
@@ -62,9 +67,9 @@ func (r *reader) piece() bool {
 	case '<':
 		return r.mendedRegion()
 	case '?':
-		return r.bodyBegin(firstBody)
+		return r.test(firstBody)
 	case '!':
-		return r.bodyBegin(singleBody)
+		return r.test(loopBody)
 	case '}':
 		return r.bodyEnd()
 	case '|':
@@ -102,14 +107,25 @@ func (r *reader) access() bool {
 	if letter == 1 {
 		kind = Put
 	}
-	r.mark(kind, start, global)
+	r.step(Step{Kind: kind, At: start, Number: global})
 	return true
 }
 
 func (r *reader) addition() bool {
+	start := r.at
 	r.at++
 	digit := r.next("0123456789")
-	return digit >= 0
+	if digit < 0 {
+		return false
+	}
+	r.step(Step{Kind: Add, At: start, Number: digit})
+	return true
+}
+
+func (r *reader) print() bool {
+	r.step(Step{Kind: Print, At: r.at})
+	r.at++
+	return true
 }
 
 func (r *reader) regionBegin() bool {
@@ -119,18 +135,19 @@ func (r *reader) regionBegin() bool {
 	if lock < 0 {
 		return false
 	}
-	r.mark(Take, start, lock)
-	r.push(region, lock)
+	r.step(Step{Kind: Take, At: start, Number: lock})
+	r.push(opened{kind: region, lock: lock})
 	return true
 }
 
 func (r *reader) regionEnd() bool {
 	top := r.top()
-	if top != region {
+	if top.kind != region {
 		return false
 	}
-	r.at++
 	r.pop()
+	r.step(Step{Kind: Give, At: r.at, Number: top.lock})
+	r.at++
 	return true
 }
 
@@ -142,27 +159,36 @@ func (r *reader) mendedRegion() bool {
 	if lock < 0 {
 		return false
 	}
-	r.mark(Take, start, lock)
-	r.push(mended, lock)
+	r.step(Step{Kind: Take, At: start, Number: lock, Mended: true})
+	r.push(opened{kind: mended, lock: lock})
 	fits := r.access()
 	if !fits {
 		return false
 	}
+	r.pop()
+	last := r.at
 	end := r.next(">")
 	if end < 0 {
 		return false
 	}
-	r.pop()
+	r.step(Step{Kind: Give, At: last, Number: lock, Mended: true})
 	return true
 }
 
+func (r *reader) test(kind int) bool {
+	r.step(Step{Kind: Test, At: r.at})
+	return r.bodyBegin(kind)
+}
+
+// bodyBegin reads one byte and the brace behind it. Where the body ends, the
+// last step that was read before it will be told where it leads.
 func (r *reader) bodyBegin(kind int) bool {
 	r.at++
 	brace := r.next("{")
 	if brace < 0 {
 		return false
 	}
-	r.push(kind, noLock)
+	r.push(opened{kind: kind, lock: noLock, from: len(r.steps) - 1})
 	return true
 }
 
@@ -170,28 +196,42 @@ func (r *reader) bodyBegin(kind int) bool {
 // second: nothing else may follow there.
 func (r *reader) bodyEnd() bool {
 	top := r.top()
-	if top != firstBody && top != singleBody {
-		return false
+	switch top.kind {
+	case firstBody:
+		r.pop()
+		r.step(Step{Kind: Jump, At: r.at})
+		r.elseHere(top.from)
+		return r.bodyBegin(secondBody)
+	case secondBody:
+		r.pop()
+		behind := len(r.steps)
+		r.leadTo(top.from, behind)
+		r.at++
+		return true
+	case loopBody:
+		r.pop()
+		jump := len(r.steps)
+		r.step(Step{Kind: Jump, At: r.at})
+		r.leadTo(jump, top.from)
+		r.elseHere(top.from)
+		r.at++
+		return true
 	}
-	r.pop()
-	if top == firstBody {
-		return r.bodyBegin(singleBody)
-	}
-	r.at++
-	return true
+	return false
 }
 
 func (r *reader) nextThread() bool {
 	if len(r.open) > 0 || r.thread >= api.MaxThreads {
 		return false
 	}
+	r.step(Step{Kind: End, At: r.at})
 	r.at++
 	r.thread++
 	return true
 }
 
-func (r *reader) push(kind int, lock int) {
-	r.open = append(r.open, opened{kind: kind, lock: lock})
+func (r *reader) push(o opened) {
+	r.open = append(r.open, o)
 }
 
 func (r *reader) pop() {
@@ -200,21 +240,10 @@ func (r *reader) pop() {
 	}
 }
 
-// top answers the kind of the innermost that is open.
-func (r *reader) top() int {
+// top answers the innermost that is open.
+func (r *reader) top() opened {
 	if len(r.open) == 0 {
-		return nothing
+		return opened{kind: nothing, lock: noLock}
 	}
-	return r.open[len(r.open)-1].kind
-}
-
-func (r *reader) mark(kind int, start int, number int) {
-	m := Mark{Kind: kind, At: start, Thread: r.thread, Number: number}
-	for i := 0; i < len(r.open); i++ {
-		lock := r.open[i].lock
-		if lock >= 0 && lock < api.Locks {
-			m.Held[lock] = true
-		}
-	}
-	r.marks = append(r.marks, m)
+	return r.open[len(r.open)-1]
 }

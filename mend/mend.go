@@ -4,6 +4,7 @@ package mend
 import (
 	"mend/api"
 	"mend/code"
+	"mend/machine"
 )
 
 // Check tells whether a text is a program (P3).
@@ -23,15 +24,24 @@ func Strip(program string) (string, api.Errno) {
 
 // Accesses lists where globals are got and put (P5).
 func Accesses(program string) ([]api.Access, api.Errno) {
-	marks, e, _ := code.Read(program)
+	steps, e, _ := code.Read(program)
 	if e != api.OK {
 		return nil, e
 	}
-	return accesses(marks), api.OK
+	return accesses(steps), api.OK
 }
 
 // Run runs a program by picks (P6).
-func Run(program string, picks string) (api.Result, api.Errno) { return api.Result{}, api.OK }
+func Run(program string, picks string) (api.Result, api.Errno) {
+	steps, e, _ := code.Read(program)
+	if e != api.OK {
+		return api.Result{}, e
+	}
+	if len(picks) > api.MaxPicks {
+		return api.Result{}, api.ErrPicks
+	}
+	return machine.Run(steps, picks), api.OK
+}
 
 // Pairs lists the open pairs of accesses (P7).
 func Pairs(program string) ([]int, api.Errno) { return nil, api.OK }

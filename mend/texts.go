@@ -24,19 +24,19 @@ func stripped(program string) string {
 	return string(left)
 }
 
-func accesses(marks []code.Mark) []api.Access {
+func accesses(steps []code.Step) []api.Access {
 	var list []api.Access
-	for i := 0; i < len(marks); i++ {
-		m := marks[i]
-		if m.Kind == code.Take {
+	for i := 0; i < len(steps); i++ {
+		s := steps[i]
+		if s.Kind != code.Get && s.Kind != code.Put {
 			continue
 		}
-		held := lockNames(m.Held)
+		held := lockNames(s.Held)
 		list = append(list, api.Access{
-			Thread: m.Thread,
-			At:     m.At,
-			Global: m.Number,
-			Put:    m.Kind == code.Put,
+			Thread: s.Thread,
+			At:     s.At,
+			Global: s.Number,
+			Put:    s.Kind == code.Put,
 			Held:   held,
 		})
 	}

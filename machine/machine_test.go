@@ -55,7 +55,7 @@ func TestStepsOfNoProgram(t *testing.T) {
 			t.Errorf("Run(%+v) = %+v", steps, r)
 		}
 	}
-	for _, number := range []int{-1, 5, 1 << 40} {
+	for _, number := range []int{-1, api.Globals, api.Locks, 1 << 40} {
 		for _, kind := range []int{code.Get, code.Put, code.Take, code.Give} {
 			r := Run([]code.Step{{Kind: kind, Thread: 1, Number: number, Next: 1}}, "11")
 			if len(r.Done) != 2 || !slices.Equal(r.Globals, []int{0, 0, 0}) || r.Race != 0 || r.Stuck != "" {

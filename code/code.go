@@ -55,6 +55,11 @@ func Read(text string) ([]Step, api.Errno, int) {
 	return r.steps, api.OK, 0
 }
 
+// IsAccess tells whether a step is an access of a global.
+func (s Step) IsAccess() bool {
+	return s.Kind == Get || s.Kind == Put
+}
+
 // nested tells whether a lock is taken inside a region of the same lock.
 func (s Step) nested() bool {
 	if s.Kind != Take || s.Number < 0 || s.Number >= api.Locks {

@@ -4,6 +4,7 @@ package mend
 import (
 	"mend/api"
 	"mend/code"
+	"mend/locks"
 	"mend/machine"
 )
 
@@ -44,10 +45,23 @@ func Run(program string, picks string) (api.Result, api.Errno) {
 }
 
 // Pairs lists the open pairs of accesses (P7).
-func Pairs(program string) ([]int, api.Errno) { return nil, api.OK }
+func Pairs(program string) ([]int, api.Errno) {
+	steps, e, _ := code.Read(program)
+	if e != api.OK {
+		return nil, e
+	}
+	return locks.Open(steps), api.OK
+}
 
 // Order lists the edges of the order of locks (P8).
-func Order(program string) (string, api.Errno) { return "", api.OK }
+func Order(program string) (string, api.Errno) {
+	steps, e, _ := code.Read(program)
+	if e != api.OK {
+		return "", e
+	}
+	order := locks.OrderOf(steps)
+	return order.Names(), api.OK
+}
 
 // Repair mends a program (P9).
 func Repair(program string) (int, string, api.Errno) { return 0, "", api.OK }

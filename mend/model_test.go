@@ -8,7 +8,7 @@ import (
 	"mend/api"
 )
 
-// A second telling of P3 to P5, as near to the document's words as can be and
+// A second telling of P3 to P5, P7 and P8, as near to the document's words as can be and
 // in another way than the program's: texts are folded by rewriting, and insides
 // are found by counting brackets.
 
@@ -106,6 +106,47 @@ func modelAccesses(text string) []api.Access {
 		}
 	}
 	return list
+}
+
+func modelPairs(text string) []int {
+	var pairs []int
+	list := modelAccesses(text)
+	for i, a := range list {
+		for j, b := range list {
+			if i < j && modelOpen(a, b) {
+				pairs = append(pairs, i, j)
+			}
+		}
+	}
+	return pairs
+}
+
+func modelOpen(a, b api.Access) bool {
+	conflict := a.Global == b.Global && a.Thread != b.Thread && (a.Put || b.Put)
+	return conflict && !strings.ContainsAny(a.Held, b.Held)
+}
+
+func modelOrder(text string) string {
+	edges := ""
+	for _, from := range []byte("ABCDE") {
+		for _, to := range []byte("ABCDE") {
+			if modelEdge(text, from, to) {
+				edges += string([]byte{from, to})
+			}
+		}
+	}
+	return edges
+}
+
+func modelEdge(text string, from, to byte) bool {
+	for i := range len(text) {
+		for j := i + 1; j < len(text); j++ {
+			if isOpening(text, i) && isOpening(text, j) && text[i+1] == from && text[j+1] == to && j < end(text, i) {
+				return true
+			}
+		}
+	}
+	return false
 }
 
 // maker makes up texts, the same ones in every run.

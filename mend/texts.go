@@ -28,7 +28,7 @@ func accesses(steps []code.Step) []api.Access {
 	var list []api.Access
 	for i := 0; i < len(steps); i++ {
 		s := steps[i]
-		if s.Kind != code.Get && s.Kind != code.Put {
+		if !s.IsAccess() {
 			continue
 		}
 		held := lockNames(s.Held)

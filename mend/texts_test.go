@@ -8,7 +8,7 @@ import (
 	"mend/api"
 )
 
-// hold tests P1 to P5 at one text against the second telling of them.
+// hold tests P1 to P5, P7 and P8 at one text against the second telling of them.
 func hold(t *testing.T, text string) {
 	t.Helper()
 	e, at := modelCheck(text)
@@ -16,14 +16,22 @@ func hold(t *testing.T, text string) {
 		t.Errorf("P3: Check(%.250q) = %d, %d, want %d, %d", text, gotE, gotAt, e, at)
 	}
 	strip, accesses := "", []api.Access(nil)
+	pairs, order := []int(nil), ""
 	if e == api.OK {
 		strip, accesses = modelStrip(text), modelAccesses(text)
+		pairs, order = modelPairs(text), modelOrder(text)
 	}
 	if got, gotE := Strip(text); got != strip || gotE != e {
 		t.Errorf("P4: Strip(%.250q) = %q, %d, want %q, %d", text, got, gotE, strip, e)
 	}
 	if got, gotE := Accesses(text); !slices.Equal(got, accesses) || gotE != e {
 		t.Errorf("P5: Accesses(%.250q) = %+v, %d, want %+v, %d", text, got, gotE, accesses, e)
+	}
+	if got, gotE := Pairs(text); !slices.Equal(got, pairs) || gotE != e {
+		t.Errorf("P7: Pairs(%.250q) = %v, %d, want %v, %d", text, got, gotE, pairs, e)
+	}
+	if got, gotE := Order(text); got != order || gotE != e {
+		t.Errorf("P8: Order(%.250q) = %q, %d, want %q, %d", text, got, gotE, order, e)
 	}
 }
 
@@ -210,6 +218,7 @@ func TestNothingWithAnError(t *testing.T) {
 		{strings.Repeat("gx", 121), api.ErrLong}, {strings.Repeat("\xff", 5000000), api.ErrLong},
 		{"gx<Apx>]", api.ErrForm}, {"gxg", api.ErrForm}, {"\x00", api.ErrForm}, {"gx\u00e9", api.ErrForm},
 		{"gx[A<Apx>]", api.ErrNest},
+		{"px|gx[A[B]]" + strings.Repeat("o", api.MaxText), api.ErrLong}, {"px|gx[A[B]]||||", api.ErrForm}, {"px|gx[A[B]", api.ErrForm}, {"px|gx[A[B[A]]]", api.ErrNest},
 	} {
 		if e, _ := Check(c.program); e != c.e {
 			t.Errorf("P1: Check(%.60q) = %d, want %d", c.program, e, c.e)
@@ -219,6 +228,12 @@ func TestNothingWithAnError(t *testing.T) {
 		}
 		if l, e := Accesses(c.program); len(l) != 0 || e != c.e {
 			t.Errorf("P1: Accesses(%.60q) = %+v, %d, want nothing and %d", c.program, l, e, c.e)
+		}
+		if l, e := Pairs(c.program); len(l) != 0 || e != c.e {
+			t.Errorf("P1: Pairs(%.60q) = %v, %d, want nothing and %d", c.program, l, e, c.e)
+		}
+		if s, e := Order(c.program); s != "" || e != c.e {
+			t.Errorf("P1: Order(%.60q) = %q, %d, want nothing and %d", c.program, s, e, c.e)
 		}
 	}
 }

@@ -46,3 +46,48 @@ func TestNoEdges(t *testing.T) {
 		}
 	}
 }
+
+func TestAdd(t *testing.T) {
+	var o Order
+	o.Add([api.Locks]bool{1: true, 3: true}, 4)
+	o.Add([api.Locks]bool{4: true}, 0)
+	o.Add([api.Locks]bool{}, 2)
+	o.Add([api.Locks]bool{true, true, true, true, true}, -1)
+	o.Add([api.Locks]bool{true, true, true, true, true}, api.Locks)
+	if names := o.Names(); names != "BEDEEA" {
+		t.Errorf("the edges are %q", names)
+	}
+}
+
+func TestWays(t *testing.T) {
+	for _, c := range []struct{ edges, ways string }{
+		{"", ""}, {"AB", "AB"}, {"ABBC", "ABACBC"}, {"ABCD", "ABCD"}, {"BAAB", "AAABBABB"}, {"ACBC", "ACBC"},
+		{"EDDCCBBA", "BACACBDADBDCEAEBECED"}, {"CEEADCAB", "ABCACBCEDADBDCDEEAEB"}, {"ABBCCADE", "AAABACBABBBCCACBCCDE"},
+	} {
+		var o Order
+		for i := 0; i < len(c.edges); i += 2 {
+			o[c.edges[i]-'A'][c.edges[i+1]-'A'] = true
+		}
+		before := o
+		if ways := o.Ways(); ways.Names() != c.ways || o != before {
+			t.Errorf("edges %q have the ways %q, want %q", c.edges, ways.Names(), c.ways)
+		}
+	}
+}
+
+func TestLeads(t *testing.T) {
+	var o Order
+	o[1][0], o[1][3] = true, true
+	for _, c := range []struct {
+		lock int
+		set  [api.Locks]bool
+		want bool
+	}{
+		{1, [api.Locks]bool{0: true}, true}, {1, [api.Locks]bool{2: true, 3: true}, true}, {1, [api.Locks]bool{1: true, 2: true, 4: true}, false}, {1, [api.Locks]bool{}, false},
+		{0, [api.Locks]bool{1: true, 3: true}, false}, {-1, [api.Locks]bool{0: true}, false}, {api.Locks, [api.Locks]bool{0: true}, false},
+	} {
+		if got := o.Leads(c.lock, c.set); got != c.want {
+			t.Errorf("from %d to %v: %v", c.lock, c.set, got)
+		}
+	}
+}

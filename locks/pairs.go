@@ -14,7 +14,7 @@ func Open(steps []code.Step) []int {
 	var pairs []int
 	for i := 0; i < len(list); i++ {
 		for j := i + 1; j < len(list); j++ {
-			if open(list[i], list[j]) {
+			if IsOpen(list[i], list[j]) {
 				pairs = append(pairs, i, j)
 			}
 		}
@@ -32,7 +32,8 @@ func accesses(steps []code.Step) []code.Step {
 	return list
 }
 
-func open(a code.Step, b code.Step) bool {
+// IsOpen tells whether two accesses are open.
+func IsOpen(a code.Step, b code.Step) bool {
 	if !conflict(a, b) {
 		return false
 	}

@@ -6,6 +6,7 @@ import (
 	"mend/code"
 	"mend/locks"
 	"mend/machine"
+	"mend/repair"
 )
 
 // Check tells whether a text is a program (P3).
@@ -64,4 +65,21 @@ func Order(program string) (string, api.Errno) {
 }
 
 // Repair mends a program (P9).
-func Repair(program string) (int, string, api.Errno) { return 0, "", api.OK }
+func Repair(program string) (int, string, api.Errno) {
+	steps, e, _ := code.Read(program)
+	if e != api.OK {
+		return 0, "", e
+	}
+	if hasMended(steps) {
+		return 0, "", api.ErrMended
+	}
+	list := accesses(steps)
+	if len(list) > api.MaxAccess || len(program) > api.MaxMend {
+		return 0, "", api.ErrMany
+	}
+	regions := repair.Fewest(steps)
+	if len(regions) == 0 {
+		return api.Clean, program, api.OK
+	}
+	return api.Mended, laid(program, regions), api.OK
+}

@@ -3,6 +3,7 @@ package mend
 import (
 	"mend/api"
 	"mend/code"
+	"mend/repair"
 )
 
 // stripped wants a program: there angle brackets stand around mended regions
@@ -22,6 +23,35 @@ func stripped(program string) string {
 		}
 	}
 	return string(left)
+}
+
+// laid answers a program with regions laid around some of its accesses, each of
+// which is two bytes.
+func laid(program string, regions []repair.Region) string {
+	var text []byte
+	for at := 0; at < len(program); at++ {
+		for i := 0; i < len(regions); i++ {
+			if regions[i].At == at {
+				text = append(text, '<', byte('A'+regions[i].Lock))
+			}
+		}
+		text = append(text, program[at])
+		for i := 0; i < len(regions); i++ {
+			if regions[i].At+1 == at {
+				text = append(text, '>')
+			}
+		}
+	}
+	return string(text)
+}
+
+func hasMended(steps []code.Step) bool {
+	for i := 0; i < len(steps); i++ {
+		if steps[i].Mended {
+			return true
+		}
+	}
+	return false
 }
 
 func accesses(steps []code.Step) []api.Access {

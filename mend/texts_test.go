@@ -8,7 +8,7 @@ import (
 	"mend/api"
 )
 
-// hold tests P1 to P5, P7 and P8 at one text against the second telling of them.
+// hold tests P1 to P5 and P7 to P9 at one text against the second telling of them.
 func hold(t *testing.T, text string) {
 	t.Helper()
 	e, at := modelCheck(text)
@@ -32,6 +32,11 @@ func hold(t *testing.T, text string) {
 	}
 	if got, gotE := Order(text); got != order || gotE != e {
 		t.Errorf("P8: Order(%.250q) = %q, %d, want %q, %d", text, got, gotE, order, e)
+	}
+	if e == api.OK {
+		holdRepair(t, text, 3)
+	} else if kind, got, gotE := Repair(text); kind != 0 || got != "" || gotE != e {
+		t.Errorf("P9: Repair(%.250q) = %d, %q, %d, want %d", text, kind, got, gotE, e)
 	}
 }
 
@@ -234,6 +239,9 @@ func TestNothingWithAnError(t *testing.T) {
 		}
 		if s, e := Order(c.program); s != "" || e != c.e {
 			t.Errorf("P1: Order(%.60q) = %q, %d, want nothing and %d", c.program, s, e, c.e)
+		}
+		if n, s, e := Repair(c.program); n != 0 || s != "" || e != c.e {
+			t.Errorf("P1: Repair(%.60q) = %d, %q, %d, want nothing and %d", c.program, n, s, e, c.e)
 		}
 	}
 }
